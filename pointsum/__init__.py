@@ -1,0 +1,1 @@
+"""All points of a cubic curve over the fractions."""

@@ -1,0 +1,81 @@
+"""The errors of the package. Texts are fixed, as a number in a field may have any length."""
+
+
+class PointsumError(ValueError):
+    """What all errors of this package stand under."""
+
+
+class TooGreat(PointsumError):
+    """Something grew beyond its limit; what: which limit."""
+
+    def __init__(self, what):
+        PointsumError.__init__(self, "something is too great")
+        self.what = what
+
+
+class NoCurve(PointsumError):
+    """A value is no plain curve."""
+
+
+class NotOn(PointsumError):
+    """A value is no point of its curve, or a point is not noted."""
+
+    def __init__(self, point):
+        PointsumError.__init__(self, "the point is not there")
+        self.point = point
+
+
+class WrongForm(PointsumError):
+    """A plain curve has not the form that is asked for."""
+
+
+class BadNumber(PointsumError):
+    """A number is not one of those that may be passed."""
+
+    def __init__(self, number):
+        PointsumError.__init__(self, "the number does not fit")
+        self.number = number
+
+
+class OutOfRange(PointsumError):
+    """A number lies where nothing is told."""
+
+    def __init__(self, number):
+        PointsumError.__init__(self, "the number is out of range")
+        self.number = number
+
+
+class Open(PointsumError):
+    """No answer was found."""
+
+
+class BadName(PointsumError):
+    """A name is not of the told form."""
+
+    def __init__(self, name):
+        PointsumError.__init__(self, "the name is not of the told form")
+        self.name = name
+
+
+class NameTaken(PointsumError):
+    """A name has an entry already."""
+
+    def __init__(self, name):
+        PointsumError.__init__(self, "the name has an entry")
+        self.name = name
+
+
+class UnknownName(PointsumError):
+    """A name has no entry."""
+
+    def __init__(self, name):
+        PointsumError.__init__(self, "the name has no entry")
+        self.name = name
+
+
+class NothingToUndo(PointsumError):
+    """No change is left to take back."""
+
+
+class NothingToRedo(PointsumError):
+    """No change is left to do again."""

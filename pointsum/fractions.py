@@ -1,0 +1,54 @@
+"""Fractions: pairs (n, d) in lowest terms, d from 1 on."""
+
+from pointsum.whole import lowest
+
+
+def plus(f, g):
+    """The sum of two fractions."""
+    return lowest(f[0] * g[1] + g[0] * f[1], f[1] * g[1])
+
+
+def less(f, g):
+    """f less g."""
+    return lowest(f[0] * g[1] - g[0] * f[1], f[1] * g[1])
+
+
+def times(f, g):
+    """The product of two fractions."""
+    return lowest(f[0] * g[0], f[1] * g[1])
+
+
+def over(f, g):
+    """f over g, which is not 0."""
+    return lowest(f[0] * g[1], f[1] * g[0])
+
+
+def is_below(f, g):
+    """Whether f is below g."""
+    return f[0] * g[1] < g[0] * f[1]
+
+
+def height(f):
+    """The greater one of the amount of n and of d."""
+    return max(abs(f[0]), f[1])
+
+
+def up_to_one(bound):
+    """The fractions above 0 and up to 1 with lower parts up to bound, ascending (Farey's row)."""
+    out = []
+    n, d = 0, 1
+    next_n, next_d = 1, bound
+    while n < d:
+        many = (bound + d) // next_d
+        n, d, next_n, next_d = next_n, next_d, many * next_n - n, many * next_d - d
+        out.append((n, d))
+    return out
+
+
+def fractions_to(bound):
+    """All fractions of height at most bound, from 1 on, ascending."""
+    upper = up_to_one(bound)
+    beyond = [(d, n) for n, d in reversed(upper[:-1])]
+    upper.extend(beyond)
+    lower = [(-n, d) for n, d in reversed(upper)]
+    return (*lower, (0, 1), *upper)

@@ -1,0 +1,62 @@
+"""Certificates for great primes, and small helpers by looking at everything, for the tests."""
+
+from fractions import Fraction
+
+SMALL = ("small",)
+
+# 8470329472543003315 * 2 ** 70 + 1
+PROTH = 9999999999999999910649018728105702850561
+PROTH_CERT = ("powers", ((2, 70, 3, SMALL),))
+
+GREAT = 9999999999999999999999999999999999999787
+GREAT_CERT = (
+    "curve", (0, 14), (1, 4440154915014618124852641210514726585822), 1119, 8936550491510277032993996977811895091, (
+        "curve", (0, 6), (2, 5548707290851059718807780653906165793), 9, 992950054612253003211608909830010551, (
+            "curve", (0, 1), (1, 620751760259189085932217947236669985), 156, 6365064452642647468924556812930543, (
+                "curve", (0, 1), (1, 1791378089480087536312609100805748), 9095929356, 699770656029119621462911, (
+                    "curve", (0, 6), (1, 150660148212641646503287), 2604476503, 268679965137583, (
+                        "curve", (0, 10), (1, 74651342128771), 3892591, 69023419, (
+                            "curve", (0, 5), (1, 33583633), 273, 252877, SMALL)))))))
+
+
+def is_prime_slowly(n):
+    return n > 1 and all(n % d for d in range(2, int(n ** 0.5) + 1))
+
+
+def added_slowly(p, a, P, Q):
+    """The sum of two points of y y = x x x + a x + b over a prime p, None for O."""
+    if P is None or Q is None:
+        return P if Q is None else Q
+    if P[0] == Q[0] and (P[1] + Q[1]) % p == 0:
+        return None
+    if P == Q:
+        k = (3 * P[0] * P[0] + a) * pow(2 * P[1], -1, p)
+    else:
+        k = (Q[1] - P[1]) * pow(Q[0] - P[0], -1, p)
+    x = (k * k - P[0] - Q[0]) % p
+    return (x, (k * (P[0] - x) - P[1]) % p)
+
+
+def times_slowly(p, a, k, P):
+    """k P by adding P again and again."""
+    out = None
+    for _ in range(k):
+        out = added_slowly(p, a, out, P)
+    return out
+
+
+def points_slowly(p, a, b):
+    """All points but O of y y = x x x + a x + b over p."""
+    squares = {}
+    for y in range(p):
+        squares.setdefault(y * y % p, []).append(y)
+    return [(x, y) for x in range(p) for y in squares.get((x * x * x + a * x + b) % p, [])]
+
+
+def frac(pair):
+    return Fraction(pair[0], pair[1])
+
+
+def pair(f):
+    f = Fraction(f)
+    return (f.numerator, f.denominator)
