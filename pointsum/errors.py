@@ -4,6 +4,9 @@
 class PointsumError(ValueError):
     """What all errors of this package stand under."""
 
+    def __init__(self, text="this cannot be done"):
+        ValueError.__init__(self, text)
+
 
 class TooGreat(PointsumError):
     """Something grew beyond its limit; what: which limit."""
