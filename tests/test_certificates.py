@@ -4,7 +4,7 @@ import unittest
 from pointsum.primes import is_prime, is_shown, shown
 from pointsum.walks import walk
 from tests.right_values import (
-    GREAT, GREAT_CERT, PROTH, PROTH_CERT, SMALL, added_slowly, is_prime_slowly, points_slowly, times_slowly,
+    GREAT, GREAT_CERT, OTHER, OTHER_CERT, PROTH, PROTH_CERT, SMALL, added_slowly, is_prime_slowly, points_slowly, times_slowly,
 )
 
 JUNK = (
@@ -142,7 +142,7 @@ class PrimeFormsTest(unittest.TestCase):
             (last,), (two,), (eleven, two), (last, eleven), (two, two, last), (two, (23, 2, 3, SMALL)),
             ((2, 3, 3, SMALL), last), ((2, 0, 3, SMALL), eleven, last), (two, (23, 1, 0, SMALL)),
             (two, (23, 1, 1013 + 3, SMALL)), (two, (23, 1, 1, SMALL)), ((4, 1, 3, SMALL), last), (two, (253, 1, 3, SMALL)),
-            ((2, 2, 4, SMALL), eleven, last), ((1, 1, 3, SMALL), two, eleven), ((-2, 2, 3, SMALL), eleven, last),
+            ((2, 1, 3, SMALL), (2, 1, 3, SMALL), last), ((2, 2, 4, SMALL), eleven, last), ((1, 1, 3, SMALL), two, eleven), ((-2, 2, 3, SMALL), eleven, last),
         ):
             self.assertIsNone(is_shown(1013, ("powers", rows)), rows)
 
@@ -151,6 +151,8 @@ class PrimeFormsTest(unittest.TestCase):
         self.assertEqual(is_shown(13, ("powers", ((2, 2, 2, SMALL),))), "prime")
         self.assertIsNone(is_shown(13, ("powers", ((3, 1, 2, SMALL),))))
         self.assertIsNone(is_shown(13, ("powers", ((2, 1, 2, SMALL),))))
+        self.assertIsNone(is_shown(5, ("powers", ((2, 1, 2, SMALL),))))
+        self.assertEqual(is_shown(5, ("powers", ((2, 2, 2, SMALL),))), "prime")
         self.assertIsNone(is_shown(2, ("powers", ((2, 1, 1, SMALL),))))
         self.assertIsNone(is_shown(1, ("powers", ((2, 1, 1, SMALL),))))
         self.assertIsNone(is_shown(0, ("powers", ((2, 1, 1, SMALL),))))
@@ -177,6 +179,8 @@ class PrimeFormsTest(unittest.TestCase):
     def test_great(self):
         self.assertEqual(is_shown(PROTH, PROTH_CERT), "prime")
         self.assertEqual(is_shown(GREAT, GREAT_CERT), "prime")
+        self.assertEqual(is_shown(OTHER, OTHER_CERT), "prime")
+        self.assertIsNone(is_shown(GREAT, OTHER_CERT))
         self.assertIsNone(is_shown(GREAT, PROTH_CERT))
         self.assertIsNone(is_shown(PROTH, GREAT_CERT))
         self.assertIsNone(is_shown(GREAT - 2, GREAT_CERT))
@@ -248,13 +252,55 @@ class CurveStepTest(unittest.TestCase):
         self.assertGreater(right, 20)
 
     def test_numbers_that_no_step_is_for(self):
-        for n in (1, 2, 3, 4, 6, 9, 15, 21, 25, 35, 49, 55, 77):
+        for n in [n for n in range(1, 60) if n < 5 or not is_prime_slowly(n)] + [77, 91]:
             for a in range(0, min(n, 6)):
                 for x in range(0, min(n, 6)):
                     for y in range(0, min(n, 6)):
                         b = (y * y - x ** 3 - a * x) % n
                         for q in (7, 11, 13, 17, 19, 23):
                             self.assertIsNone(is_shown(n, ("curve", (a, b), (x, y), 1, q, SMALL)))
+
+    def test_q_that_is_just_not_great_enough(self):
+        # (q - 1) ** 2 is at most 4 n, (q + 1) ** 2 is above it; and the next n below, for which q is enough.
+        rng = random.Random(5)
+        seen = set()
+        for n in [n for n in range(100, 420) if is_prime_slowly(n)]:
+            for q in (23, 29, 31, 37, 41):
+                if not (q - 2) ** 2 < 4 * n < (q + 1) ** 2:
+                    continue
+                for _ in range(60):
+                    a, b = rng.randrange(n), rng.randrange(n)
+                    points = points_slowly(n, a, b)
+                    if (4 * a ** 3 + 27 * b * b) % n == 0 or (len(points) + 1) % q != 0:
+                        continue
+                    c = (len(points) + 1) // q
+                    for P in points:
+                        if walk(n, a, P, c)[1] != ():
+                            right = (q - 1) ** 2 > 4 * n
+                            told = is_shown(n, ("curve", (a, b), P, c, q, SMALL))
+                            self.assertEqual(told, "prime" if right else None, (n, a, b, P, c, q))
+                            seen.add(told)
+                            break
+        self.assertEqual(seen, {"prime", None})
+
+    def test_curves_that_are_none(self):
+        # y y = x x x has n - 1 pairs and O modulo n, and sums as a curve has; so q = n would do.
+        for n in (7, 101, 1009):
+            self.assertEqual(walk(n, 0, (1, 1), n), ("point", ()))
+            self.assertIsNone(is_shown(n, ("curve", (0, 0), (1, 1), 1, n, SMALL)))
+        # y y = (x - 1) (x - 1) (x + 2) has n - 1 or n + 1 of both.
+        many = 0
+        for n in [n for n in range(100, 1200) if is_prime_slowly(n)]:
+            for many_points in (n - 1, n + 1):
+                for c in (2, 4, 6, 12):
+                    q = many_points // c
+                    if many_points % c or not is_prime_slowly(q) or (q - 1) ** 2 <= 4 * n:
+                        continue
+                    P = next(P for P in points_slowly(n, n - 3, 2) if P[0] not in (1, n - 2))
+                    if walk(n, n - 3, P, c)[1] != () and walk(n, n - 3, P, c * q) == ("point", ()):
+                        many += 1
+                        self.assertIsNone(is_shown(n, ("curve", (n - 3, 2), P, c, q, SMALL)))
+        self.assertGreater(many, 5)
 
     def test_steps_of_5(self):
         value = None

@@ -80,6 +80,10 @@ class LocalSquareTest(unittest.TestCase):
                 told = any((x * x - a) % m == 0 for x in range(m))
                 self.assertIs(is_local_square(a, p), told, (a, p))
 
+    def test_nought_has_roots_everywhere(self):
+        for p in (2, 3, 10 ** 20 - 11):
+            self.assertIs(is_local_square(0, p), True)
+
     def test_great_ones(self):
         p = 10 ** 20 - 11
         self.assertIs(is_local_square(4 * p * p, p), True)
