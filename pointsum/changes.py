@@ -1,8 +1,8 @@
 """Changes (u, r, s, t) of fractions, u not 0, that lead curves and points to others."""
 
 from pointsum.curves import five, numbers_of
-from pointsum.fractions import less, over, plus, times
-from pointsum.whole import exact_root, lowest
+from pointsum.fractions import less, over, plus, root_of_fraction, times
+from pointsum.whole import lowest
 
 
 def whole_fraction(n):
@@ -82,14 +82,6 @@ def back(change):
     return (over(one, u), times(minus, over(r, uu)), times(minus, over(s, u)), last)
 
 
-def root_above(f, k):
-    """The fraction above 0 whose k-th power is a fraction f, or None."""
-    if f[0] <= 0:
-        return None
-    n, d = exact_root(f[0], k), exact_root(f[1], k)
-    return None if n is None or d is None else (n, d)
-
-
 def scale_between(curve, other):
     """The u above 0 with u ** 4 c4' = c4 and u ** 6 c6' = c6, c4' and c6' of the other curve; or None."""
     _, _, _, _, c4, c6, _ = numbers_of(curve)
@@ -97,10 +89,10 @@ def scale_between(curve, other):
     if (c4 == 0) != (d4 == 0) or (c6 == 0) != (d6 == 0):
         return None
     if c4 == 0:
-        return root_above(lowest(c6, d6), 6)
+        return root_of_fraction(lowest(c6, d6), 6)
     if c6 == 0:
-        return root_above(lowest(c4, d4), 4)
-    u = root_above(lowest(c6 * d4, d6 * c4), 2)
+        return root_of_fraction(lowest(c4, d4), 4)
+    u = root_of_fraction(lowest(c6 * d4, d6 * c4), 2)
     if u is None:
         return None
     n, d = u[0] * u[0], u[1] * u[1]

@@ -1,6 +1,6 @@
 """Fractions: pairs (n, d) in lowest terms, d from 1 on."""
 
-from pointsum.whole import lowest
+from pointsum.whole import exact_root, lowest
 
 
 def plus(f, g):
@@ -31,6 +31,12 @@ def is_below(f, g):
 def height(f):
     """The greater one of the amount of n and of d."""
     return max(abs(f[0]), f[1])
+
+
+def root_of_fraction(f, k):
+    """The fraction whose k-th power is f, from 0 on for even k; None if there is none."""
+    n, d = exact_root(f[0], k), exact_root(f[1], k)
+    return None if n is None or d is None else (n, d)
 
 
 def up_to_one(bound):

@@ -3,6 +3,7 @@
 from math import gcd, isqrt
 
 from pointsum.modular import power_mod
+from pointsum.whole import odd_part
 
 # The first primes up to 41 tell each n below 3 * 10 ** 24 whether it is prime (a known count);
 # below the first number of a row its second one of them are enough.
@@ -20,11 +21,7 @@ ROUND = 128
 
 def betrays(n, a):
     """Whether a shows that n, odd from 3 on, is not prime, as ("witness", a) tells it."""
-    t = n - 1
-    many = 0
-    while t % 2 == 0:
-        t //= 2
-        many += 1
+    many, t = odd_part(n - 1)
     x = power_mod(a, t, n)
     if x == 1 or x == n - 1:
         return False

@@ -2,7 +2,7 @@
 
 from pointsum.errors import OutOfRange
 from pointsum.modular import power_mod
-from pointsum.whole import valuation
+from pointsum.whole import odd_part, valuation
 
 
 def symbol(a, n):
@@ -32,11 +32,7 @@ def least_nonsquare(p):
 
 def any_root(a, p):
     """A root modulo an odd prime p of a, a square there other than 0."""
-    t = p - 1
-    many = 0
-    while t % 2 == 0:
-        t //= 2
-        many += 1
+    many, t = odd_part(p - 1)
     r = power_mod(a, (t + 1) // 2, p)
     left = power_mod(a, t, p)
     turn = power_mod(least_nonsquare(p), t, p)

@@ -2,9 +2,10 @@
 
 from pointsum.curves import short_form
 from pointsum.errors import BadNumber
+from pointsum.fractions import root_of_fraction
 from pointsum.primes import class_of
 from pointsum.shortening import without_powers
-from pointsum.whole import exact_root, is_square, lowest
+from pointsum.whole import is_square, lowest
 
 MOST = 10000
 
@@ -37,13 +38,6 @@ def small_class(f):
     return result if abs(result) <= MOST else None
 
 
-def root_between(n, d, k):
-    """The fraction whose k-th power is n / d, from 0 on for even k; None if there is none."""
-    f = lowest(n, d)
-    upper, lower = exact_root(f[0], k), exact_root(f[1], k)
-    return None if upper is None or lower is None else (upper, lower)
-
-
 def twist_between(curve, other):
     """The d of the least amount, to 10,000, the one above 0 of two, twisting a curve to the other; or None."""
     a, b = short_form(curve)
@@ -52,9 +46,9 @@ def twist_between(curve, other):
         return None
     # The other one has u ** 4 c = t t a and u ** 6 d = t t t b for the t that is asked, told up to squares.
     if a == 0:
-        ratio = root_between(d, b, 3)
+        ratio = root_of_fraction(lowest(d, b), 3)
     elif b == 0:
-        ratio = root_between(c, a, 2)
+        ratio = root_of_fraction(lowest(c, a), 2)
     else:
         ratio = lowest(a * d, c * b)
     return None if ratio is None else small_class(ratio)

@@ -25,6 +25,12 @@ def valuation(n, p):
     return many
 
 
+def odd_part(n):
+    """The pair (s, t), t odd, with n = 2 ** s t, n not 0."""
+    s = valuation(n, 2)
+    return (s, n >> s)
+
+
 def common(a, b):
     """The greatest number that divides both; 0 if both are 0."""
     return gcd(a, b)

@@ -2,7 +2,7 @@ import unittest
 from fractions import Fraction
 from math import gcd
 
-from pointsum.fractions import fractions_to, height, is_below, less, over, plus, times
+from pointsum.fractions import fractions_to, height, is_below, less, over, plus, root_of_fraction, times
 from tests.right_values import frac, pair
 
 SOME = sorted({Fraction(n, d) for n in range(-7, 8) for d in range(1, 7)} | {Fraction(10 ** 40 + 1, 10 ** 40 - 3)})
@@ -25,6 +25,11 @@ class ReckoningTest(unittest.TestCase):
         self.assertEqual(over((2, 3), (-4, 9)), (-3, 2))
         self.assertEqual(over((0, 1), (-4, 9)), (0, 1))
         self.assertEqual(times((2, 3), (3, 2)), (1, 1))
+
+    def test_roots(self):
+        for f, k, want in (((4, 9), 2, (2, 3)), ((-4, 9), 2, None), ((-8, 27), 3, (-2, 3)), ((4, 3), 2, None),
+                           ((3, 4), 2, None), ((0, 1), 4, (0, 1)), ((64, 729), 6, (2, 3))):
+            self.assertEqual(root_of_fraction(f, k), want)
 
     def test_height(self):
         for f, want in (((0, 1), 1), ((-7, 3), 7), ((3, 7), 7), ((-1, 1), 1), ((5, 1), 5)):

@@ -1,7 +1,9 @@
 import unittest
 
 from pointsum.modular import inverse_mod, power_mod
-from pointsum.whole import common, exact_root, is_square, is_whole, lowest, power, root, root_of, valuation
+from pointsum.whole import (
+    common, exact_root, is_square, is_whole, lowest, odd_part, power, root, root_of, valuation,
+)
 
 
 class WholeTest(unittest.TestCase):
@@ -23,6 +25,10 @@ class WholeTest(unittest.TestCase):
         self.assertEqual([valuation(n, 2) for n in (1, 2, 12, -8, 7, 3 * 2 ** 70)], [0, 1, 2, 3, 0, 70])
         self.assertEqual([valuation(n, 10) for n in (5, 10, -1000, 2 ** 9 * 5 ** 4)], [0, 1, 3, 4])
         self.assertEqual(valuation(-(10 ** 9 + 7) ** 5 * 6, 10 ** 9 + 7), 5)
+
+    def test_odd_part(self):
+        self.assertEqual([odd_part(n) for n in (1, 2, 12, 7, -8, 5 << 70)],
+                         [(0, 1), (1, 1), (2, 3), (0, 7), (3, -1), (70, 5)])
 
     def test_common(self):
         self.assertEqual(common(0, 0), 0)
