@@ -1,29 +1,8 @@
 """Changes (u, r, s, t) of fractions, u not 0, that lead curves and points to others."""
 
 from pointsum.curves import five, numbers_of
-from pointsum.fractions import less, over, plus, root_of_fraction, times
+from pointsum.fractions import less, over, plus, product, root_of_fraction, times, total, whole_fraction
 from pointsum.whole import lowest
-
-
-def whole_fraction(n):
-    """A whole number as a fraction."""
-    return (n, 1)
-
-
-def total(fractions):
-    """The sum of a list of fractions."""
-    result = (0, 1)
-    for f in fractions:
-        result = plus(result, f)
-    return result
-
-
-def product(fractions):
-    """The product of a list of fractions."""
-    result = (1, 1)
-    for f in fractions:
-        result = times(result, f)
-    return result
 
 
 def led(curve, change):

@@ -1,6 +1,8 @@
 """Fractions: pairs (n, d) in lowest terms, d from 1 on."""
 
-from pointsum.whole import exact_root, lowest
+from math import gcd, lcm
+
+from pointsum.whole import exact_root, is_whole, lowest
 
 
 def plus(f, g):
@@ -21,6 +23,43 @@ def times(f, g):
 def over(f, g):
     """f over g, which is not 0."""
     return lowest(f[0] * g[1], f[1] * g[0])
+
+
+def whole_fraction(n):
+    """A whole number as a fraction."""
+    return (n, 1)
+
+
+def total(fractions):
+    """The sum of a list of fractions."""
+    result = (0, 1)
+    for f in fractions:
+        result = plus(result, f)
+    return result
+
+
+def product(fractions):
+    """The product of a list of fractions."""
+    result = (1, 1)
+    for f in fractions:
+        result = times(result, f)
+    return result
+
+
+def common_lower(fractions):
+    """The least number that the lower parts of all fractions of a list divide."""
+    lower = 1
+    for _, d in fractions:
+        lower = lcm(lower, d)
+    return lower
+
+
+def is_fraction(value):
+    """Whether a value is a pair of integers without a common divisor above 1, the second from 1 on."""
+    if not isinstance(value, tuple) or len(value) != 2:
+        return False
+    n, d = value
+    return is_whole(n) and is_whole(d) and d >= 1 and gcd(n, d) == 1
 
 
 def is_below(f, g):

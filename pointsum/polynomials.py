@@ -2,10 +2,11 @@
 
 from pointsum.divisors import primitive, quotient, shared_part
 from pointsum.fractionroots import roots_not_nought
+from pointsum.fractions import common_lower
 from pointsum.modpoly import all_roots
 from pointsum.realroots import count_open
 from pointsum.values import value_scaled, value_whole
-from pointsum.whole import common, is_whole, lowest, power
+from pointsum.whole import is_whole, lowest, power
 
 
 def value_at(f, x):
@@ -51,9 +52,7 @@ def roots_over(f, p):
 
 def ascending(fractions):
     """The tuple of the fractions of a list, ascending."""
-    lower = 1
-    for _, d in fractions:
-        lower = lower * d // common(lower, d)
+    lower = common_lower(fractions)
     return tuple(sorted(fractions, key=lambda f: f[0] * (lower // f[1])))
 
 

@@ -65,6 +65,8 @@ def root_of(n, k):
     """The greatest r with r ** k at most n, n from 0 on, k from 1 on."""
     if n < 2 or k == 1:
         return n
+    if k == 2:
+        return isqrt(n)
     # A start above the root makes each step go down until the root is reached.
     r = 1 << (n.bit_length() // k + 1)
     while True:

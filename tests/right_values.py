@@ -1,6 +1,7 @@
 """Certificates for great primes, and small helpers by looking at everything, for the tests."""
 
 from fractions import Fraction
+from math import isqrt
 
 SMALL = ("small",)
 
@@ -70,3 +71,58 @@ def frac(pair):
 def pair(f):
     f = Fraction(f)
     return (f.numerator, f.denominator)
+
+
+def plus_slowly(curve, P, Q):
+    """The sum of two points of five numbers a1, .., a6, letters as Fractions, None for zero."""
+    a1, a2, a3, a4, _ = curve
+    if P is None or Q is None:
+        return P if Q is None else Q
+    (x, y), (z, w) = P, Q
+    if x == z and w == -y - a1 * x - a3:
+        return None
+    k = (3 * x * x + 2 * a2 * x + a4 - a1 * y) / (2 * y + a1 * x + a3) if P == Q else (w - y) / (z - x)
+    e = k * k + a1 * k - a2 - x - z
+    return (e, -(k * (e - x) + y) - a1 * e - a3)
+
+
+def minus_slowly(curve, P):
+    return None if P is None else (P[0], -P[1] - curve[0] * P[0] - curve[2])
+
+
+def many_slowly(curve, n, P):
+    """n P by adding P again and again."""
+    if n < 0:
+        return many_slowly(curve, -n, minus_slowly(curve, P))
+    out = None
+    for _ in range(n):
+        out = plus_slowly(curve, out, P)
+    return out
+
+
+def told_point(P):
+    """A point of Fractions as the package tells it."""
+    return () if P is None else (pair(P[0]), pair(P[1]))
+
+
+def right_point(point):
+    """A point of the package with Fractions as letters."""
+    return None if point == () else (frac(point[0]), frac(point[1]))
+
+
+def whole_points_slowly(curve, most):
+    """All points of five integers with whole letters and an x of an amount to most, as the package tells them."""
+    a1, a2, a3, a4, a6 = curve
+    found = []
+    for x in range(-most, most + 1):
+        b, c = a1 * x + a3, x ** 3 + a2 * x * x + a4 * x + a6
+        square = b * b + 4 * c
+        r = isqrt(max(square, 0))
+        if r * r == square:
+            found += [((x, 1), ((z - b) // 2, 1)) for z in sorted({-r, r}) if (z - b) % 2 == 0]
+    return found
+
+
+def order_of_points(points):
+    """Points in their order: zero first, then by x, then by y."""
+    return tuple(sorted(points, key=lambda P: () if P == () else (frac(P[0]), frac(P[1]))))
