@@ -10,14 +10,14 @@ from math import gcd
 from pointsum.modular import power_mod
 from pointsum.splitting import betrays, has_no_parts
 from pointsum.walks import walk
-from pointsum.whole import is_whole
+from pointsum.whole import is_tuple, is_whole
 
 SMALL = 1000000
 
 
 def is_letter_pair(n, value):
     """Whether a value is a pair of integers from 0 to n - 1."""
-    if not isinstance(value, tuple) or len(value) != 2:
+    if not is_tuple(value, 2):
         return False
     u, v = value
     return is_whole(u) and is_whole(v) and 0 <= u < n and 0 <= v < n
@@ -25,9 +25,7 @@ def is_letter_pair(n, value):
 
 def is_row(value):
     """Whether a value has the form (q, e, a, CERT)."""
-    if not isinstance(value, tuple) or len(value) != 4:
-        return False
-    return is_whole(value[0]) and is_whole(value[1]) and is_whole(value[2])
+    return is_tuple(value, 4) and all([is_whole(n) for n in value[:3]])
 
 
 def freed(n, q, e):

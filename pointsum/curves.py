@@ -1,7 +1,7 @@
 """Curves (a1, a2, a3, a4, a6), plain curves (a, b, c), their numbers and forms."""
 
 from pointsum.shortening import without_powers
-from pointsum.whole import is_whole, lowest
+from pointsum.whole import is_tuple, is_whole, lowest
 
 PLAIN_LIMIT = 10000
 
@@ -16,9 +16,7 @@ def five(curve):
 
 def are_whole(value, many):
     """Whether a value is a tuple of so many integers."""
-    if not isinstance(value, tuple) or len(value) != many:
-        return False
-    return all([is_whole(n) for n in value])
+    return is_tuple(value, many) and all([is_whole(n) for n in value])
 
 
 def is_curve(value):

@@ -2,7 +2,7 @@
 
 from math import gcd, lcm
 
-from pointsum.whole import exact_root, is_whole, lowest
+from pointsum.whole import exact_root, is_tuple, is_whole, lowest
 
 
 def plus(f, g):
@@ -56,7 +56,7 @@ def common_lower(fractions):
 
 def is_fraction(value):
     """Whether a value is a pair of integers without a common divisor above 1, the second from 1 on."""
-    if not isinstance(value, tuple) or len(value) != 2:
+    if not is_tuple(value, 2):
         return False
     n, d = value
     return is_whole(n) and is_whole(d) and d >= 1 and gcd(n, d) == 1

@@ -62,8 +62,8 @@ def least_and_scale(curve):
     _, _, _, _, c4, c6, _ = numbers_of(curve)
     most = greatest_scale(c4, c6)
     # Only 2 and 3 can keep a pair from being that of a curve; w is the greatest u that is let.
-    twos, threes = range(valuation(most, 2) + 1), range(valuation(most, 3) + 1)
-    for left_out in sorted([power(2, i) * power(3, j) for i in twos for j in threes]):
+    twos, threes = valuation(most, 2), valuation(most, 3)
+    for left_out in sorted([power(2, i) * power(3, j) for i in range(twos + 1) for j in range(threes + 1)]):
         u = most // left_out
         fourth = u * u * u * u
         least = curve_of(c4 // fourth, c6 // (fourth * u * u))

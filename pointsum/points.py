@@ -8,7 +8,7 @@ from pointsum.fractions import common_lower, height, is_fraction, less, over, pl
 from pointsum.fractions import times, total, whole_fraction
 from pointsum.modular import inverse_mod
 from pointsum.polynomials import derivative, fraction_roots, value_at
-from pointsum.whole import power
+from pointsum.whole import is_tuple, power
 
 MOST_FIGURES = 4000
 
@@ -17,7 +17,7 @@ def is_point(curve, value):
     """Whether a value, any one, is a point of a curve."""
     if value == ():
         return True
-    if not isinstance(value, tuple) or len(value) != 2:
+    if not is_tuple(value, 2):
         return False
     x, y = value
     return is_fraction(x) and is_fraction(y) and satisfies(curve, x, y)

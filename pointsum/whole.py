@@ -41,6 +41,11 @@ def is_whole(value):
     return type(value) is int
 
 
+def is_tuple(value, many):
+    """Whether a value is a tuple of so many values."""
+    return isinstance(value, tuple) and len(value) == many
+
+
 def power(a, e):
     """a to the power e, e from 0 on."""
     result = 1

@@ -193,7 +193,7 @@ class TwistOverTest(unittest.TestCase):
             other = twist_over(p, curve)
             self.assertTrue(is_curve_over(p, other))
             self.assertEqual(count_over(p, curve) + count_over(p, other), 2 * p + 2)
-            d = min(d for d in range(2, p) if all((z * z - d) % p for z in range(p)))
+            d = min(d for d in range(2, p) if pow(d, (p - 1) // 2, p) == p - 1)
             b2, b4, b6, _, _, _, _ = numbers_of(curve)
             self.assertEqual(other, (0, d * b2 % p, 0, 8 * d * d * b4 % p, 16 * d ** 3 * b6 % p))
         self.assertEqual(twist_over(7, (0, 0, 0, 6, 0)), (0, 0, 0, 8 * 9 * 2 * 6 % 7, 0))

@@ -7,6 +7,7 @@ from pointsum.curves import five, is_plain
 from pointsum.errors import BadNumber, WrongForm
 from pointsum.points import added, is_point, multiple, opposite
 from pointsum.primes import class_of, class_times
+from pointsum.quartics import at_reals
 from pointsum.twomaps import back, beside, class_of_point, parents, point_of_class, quartic_of, there
 from tests.right_values import frac, order_of_points, pair, whole_points_slowly
 
@@ -117,6 +118,18 @@ class ClassTest(unittest.TestCase):
         for curve in CURVES:
             for P in some_points(curve, rng):
                 self.assertEqual(parents(curve, P) != (), class_of_point(curve, P) == 1)
+
+
+    def test_example(self):
+        self.assertEqual(class_of_point((0, -1, 0), END), -1)
+        self.assertEqual(class_of_point((0, -1, 0), ((1, 1), (0, 1))), 1)
+        self.assertEqual(class_of_point((0, -1, 0), ((-1, 1), (0, 1))), -1)
+        self.assertEqual(class_of_point((0, 4, 0), ((2, 1), (4, 1))), 2)
+        self.assertEqual(class_of_point((0, 4, 0), END), 1)
+        # Those below 0 have no real point.
+        for d in (1, 2):
+            self.assertTrue(at_reals(quartic_of((0, 4, 0), d)))
+            self.assertFalse(at_reals(quartic_of((0, 4, 0), -d)))
 
 
 class QuarticTest(unittest.TestCase):
