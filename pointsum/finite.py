@@ -12,8 +12,7 @@ from pointsum.splitting import has_no_parts
 from pointsum.whole import is_whole
 
 MOST = 10000
-ENOUGH = 6
-# How many points of finite order a curve may have (known). This tells only when to stop counting;
+# How many points of finite order a curve may have (known). This tells only that counting ends;
 # that the points found are all hangs on the counts.
 SIZES = (1, 2, 3, 4, 5, 6, 7, 8, 9, 10, 12, 16)
 
@@ -56,12 +55,10 @@ def count_bound(curve, primes):
 def size_limit(curve):
     """One of SIZES that the number of members of the finite part divides."""
     shared = 0
-    counted = 0
     p = 3
-    while counted < ENOUGH or shared not in SIZES:
+    while shared not in SIZES:
         if is_good_prime(curve, p):
             shared = gcd(shared, count_over(p, curve_modulo(curve, p)))
-            counted += 1
         p += 2
     return shared
 

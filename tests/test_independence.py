@@ -205,7 +205,11 @@ class ShownTest(unittest.TestCase):
         self.assertTrue(self.check(RANK_TWO, (added(RANK_TWO, P, P), Q)))
         self.assertTrue(self.check(RANK_TWO, (multiple(RANK_TWO, 30, P),)))
         curve = (0, -16, 16)
-        self.assertFalse(self.check(curve, (multiple(curve, 14, multiple(curve, 15, ((0, 1), (4, 1)))),)))
+        for n, m, l in ((7, 15, 2), (7, 10, 3), (7, 6, 5), (5, 6, 7), (14, 15, None)):
+            points = (multiple(curve, n, multiple(curve, m, ((0, 1), (4, 1)))),)
+            self.assertEqual(self.check(curve, points), l is not None)
+            if l is not None:
+                self.assertEqual(shown_by(curve, points)[0], l)
         # Three independent points.
         three = tuple(((x, 1), (y, 1)) for x, y in ((-1, -9), (-8, -12), (-9, -3)))
         self.assertTrue(self.check((0, -82, 0), three))

@@ -2,6 +2,7 @@ import random
 import unittest
 
 from pointsum.local import at_prime, bars_at, everywhere, is_bars, is_witness, witness_at
+from pointsum.localclasses import is_square_form
 from pointsum.quartics import at_reals, is_quartic
 from tests.test_quartics import some_quartic
 
@@ -221,6 +222,31 @@ class LocalTest(unittest.TestCase):
         self.check((p, p, c), p)
         self.check((c, p, p), p)
         self.assertIs(self.check((p ** 3, c, p ** 3), p), False)
+
+    def test_squares_of_forms_in_smaller_classes(self):
+        # At the roots of t t + s comes c (2 r u + w) ** 2 + p: again a square of a form.
+        p = 999983
+        c = min(c for c in range(2, 99) if pow(c, (p - 1) // 2, p) == p - 1)
+        for s in range(1, 6):
+            quartic = (c, 2 * c * s, c * s * s + p ** 3)
+            self.assertIs(self.check(quartic, p), False)
+            rows = bars_at(quartic, p)[0][1]
+            self.assertEqual(len(rows), 2 if pow(-s, (p - 1) // 2, p) == 1 else 0)
+            for _, part in rows:
+                self.assertEqual((part[0], [row[1] for row in part[1]]), ("even", [("odd", ())]))
+
+    def test_is_square_form(self):
+        rng = random.Random(8)
+        for p in (3, 5, 7, 11):
+            digits = range(p)
+            squares = {(1,)} | {(b * b % p, 2 * b % p, 1) for b in digits}
+            squares |= {(c * c % p, 2 * b * c % p, (2 * c + b * b) % p, 2 * b % p, 1) for b in digits for c in digits}
+            for degree in range(5):
+                for _ in range(200):
+                    f = [rng.randrange(p) for _ in range(degree)] + [1]
+                    self.assertIs(is_square_form(f, p), tuple(f) in squares)
+            for f in squares:
+                self.assertIs(is_square_form(list(f), p), True)
 
     def test_everywhere(self):
         self.assertIs(everywhere((-1, -5, -1), ()), False)

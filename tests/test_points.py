@@ -7,7 +7,7 @@ from pointsum.curves import five, numbers_of
 from pointsum.errors import TooGreat
 from pointsum.fields import added_over
 from pointsum.points import (
-    added, halves, is_point, line_of, meets, multiple, opposite, point_modulo, thirds,
+    added, ascending_points, halves, is_point, line_of, meets, multiple, opposite, point_modulo, thirds,
 )
 from tests.right_values import (
     frac, many_slowly, minus_slowly, order_of_points, pair, plus_slowly, right_point, told_point, whole_points_slowly,
@@ -199,6 +199,16 @@ class MultipleTest(unittest.TestCase):
                 self.assertEqual(multiple(curve, 1, P), P)
                 self.assertEqual(multiple(curve, -1, P), ((1, 1), (-y, 1)))
 
+    def test_x_alone_beyond_the_limit(self):
+        for x in (10 ** 4000, 10 ** 4000 + 1):
+            curve, P = (0, 0, 0, -x * x, 0), ((-x, 1), (0, 1))
+            self.assertEqual(multiple(curve, 2, P), ())
+            if x == 10 ** 4000:
+                self.assertEqual(multiple(curve, 1, P), P)
+                self.assertEqual(multiple(curve, 59, P), P)
+            else:
+                self.assertRaises(TooGreat, multiple, curve, 1, P)
+
     def test_great_points_soon(self):
         great = multiple((0, -25, 0), 56, ((-4, 1), (6, 1)))
         for n in (2, 3, -31, 60):
@@ -332,6 +342,15 @@ class PartsTest(unittest.TestCase):
         self.assertEqual(thirds(curve, great), ())
         self.assertEqual(thirds(curve, multiple(curve, 54, P)), (multiple(curve, 18, P),))
         self.assertIn(multiple(curve, 27, P), halves(curve, multiple(curve, 54, P)))
+
+
+class OrderTest(unittest.TestCase):
+    def test_ascending(self):
+        rng = random.Random(10)
+        for _ in range(100):
+            points = [tuple(pair(Fraction(rng.randint(-9, 9), rng.randint(1, 9))) for _ in range(2)) for _ in range(6)]
+            points.append((points[0][0], points[1][1]))
+            self.assertEqual(tuple(ascending_points(points)), order_of_points(points))
 
 
 class ModuloTest(unittest.TestCase):
