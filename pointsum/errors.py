@@ -5,14 +5,14 @@ class PointsumError(ValueError):
     """What all errors of this package stand under."""
 
     def __init__(self, text="this cannot be done"):
-        ValueError.__init__(self, text)
+        super().__init__(text)
 
 
 class TooGreat(PointsumError):
     """Something grew beyond its limit; what: which limit."""
 
     def __init__(self, what):
-        PointsumError.__init__(self, "something is too great")
+        super().__init__("something is too great")
         self.what = what
 
 
@@ -24,7 +24,7 @@ class NotOn(PointsumError):
     """A value is no point of its curve, or a point is not noted."""
 
     def __init__(self, point):
-        PointsumError.__init__(self, "the point is not there")
+        super().__init__("the point is not there")
         self.point = point
 
 
@@ -36,7 +36,7 @@ class BadNumber(PointsumError):
     """A number is not one of those that may be passed."""
 
     def __init__(self, number):
-        PointsumError.__init__(self, "the number does not fit")
+        super().__init__("the number does not fit")
         self.number = number
 
 
@@ -44,7 +44,7 @@ class OutOfRange(PointsumError):
     """A number lies where nothing is told."""
 
     def __init__(self, number):
-        PointsumError.__init__(self, "the number is out of range")
+        super().__init__("the number is out of range")
         self.number = number
 
 
@@ -56,7 +56,7 @@ class BadName(PointsumError):
     """A name is not of the told form."""
 
     def __init__(self, name):
-        PointsumError.__init__(self, "the name is not of the told form")
+        super().__init__("the name is not of the told form")
         self.name = name
 
 
@@ -64,7 +64,7 @@ class NameTaken(PointsumError):
     """A name has an entry already."""
 
     def __init__(self, name):
-        PointsumError.__init__(self, "the name has an entry")
+        super().__init__("the name has an entry")
         self.name = name
 
 
@@ -72,7 +72,7 @@ class UnknownName(PointsumError):
     """A name has no entry."""
 
     def __init__(self, name):
-        PointsumError.__init__(self, "the name has no entry")
+        super().__init__("the name has no entry")
         self.name = name
 
 

@@ -41,6 +41,11 @@ def is_good_prime(curve, p):
     return p > 2 and has_no_parts(p) and numbers_of(curve)[6] % p != 0
 
 
+def good_primes(curve, most):
+    """The list of all odd primes to most that do not divide the discriminant, ascending."""
+    return [p for p in range(3, most + 1, 2) if is_good_prime(curve, p)]
+
+
 def count_bound(curve, primes):
     """The greatest common divisor of the numbers of points over some odd primes."""
     for p in primes:

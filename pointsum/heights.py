@@ -84,14 +84,26 @@ def determinant_bounds(curve, points, n):
 
 def least_height(curve, B, n):
     """The least height mu(B, n), which no point that is not of finite order stays below if it is above 0."""
-    box = box_of(curve, B)
-    told = constants_of(curve)
-    least = lowest(3 * (B.bit_length() - 1) - told[0].bit_length(), 3)
-    # A point and its opposite stand side by side and have one height.
+    return least_in(curve, endless_points(curve, box_of(curve, B)), B, n)
+
+
+def endless_points(curve, box):
+    """The list of the points of a box that are not of finite order, one of each with its opposite."""
+    found = []
+    # A point and its opposite stand side by side.
     ahead = None
     for point in box[1:]:
         if point[0] != ahead and order_of(curve, point) is None:
-            low = bounds_of_x(curve, told, point[0], n)[0]
-            least = low if is_below(low, least) else least
+            found.append(point)
         ahead = point[0]
+    return found
+
+
+def least_in(curve, points, B, n):
+    """mu(B, n) by the endless_points of the box of B."""
+    told = constants_of(curve)
+    least = lowest(3 * (B.bit_length() - 1) - told[0].bit_length(), 3)
+    for point in points:
+        low = bounds_of_x(curve, told, point[0], n)[0]
+        least = low if is_below(low, least) else least
     return least

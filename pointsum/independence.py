@@ -1,54 +1,19 @@
 """Independent points of plain curves, shown by their classes modulo multiples over small fields."""
 
+from pointsum.dependence import are_dependent
 from pointsum.errors import BadNumber, TooGreat
-from pointsum.fields import added_over, count_over, curve_modulo, multiple_over, points_over
+from pointsum.fields import count_over, curve_modulo
 from pointsum.finite import finite_basis, is_good_prime, order_of
-from pointsum.points import point_modulo
+from pointsum.quotients import logs_over
+from pointsum.rows import all_tuples, kept_rows
 from pointsum.whole import is_whole, power
 
 MOST_PRIME = 1000
 MOST_TUPLES = 3000
 TRIED = (2, 3, 5, 7)
 TRIED_PRIMES = 500
-
-
-def all_tuples(many, l):
-    """The list of all tuples of so many numbers from 0 to l - 1 that are not all 0, ascending."""
-    rows = [()]
-    for _ in range(many):
-        rows = [(*row, n) for row in rows for n in range(l)]
-    return [row for row in rows if any(row)]
-
-
-def sum_over(p, curve, multiples, row):
-    """The sum of the multiples that a row tells of points over p."""
-    place = ()
-    for table, n in zip(multiples, row):
-        place = added_over(p, curve, place, table[n])
-    return place
-
-
-def multiples_over(p, curve, P, l):
-    """The list of 0 P to (l - 1) P."""
-    row = [()]
-    for _ in range(l - 1):
-        row.append(added_over(p, curve, row[-1], P))
-    return row
-
-
-def kept_at(curve, points, l, p, rows):
-    """Those rows whose sums of multiples of the points are, modulo p, l times some point."""
-    digits = curve_modulo(curve, p)
-    # Otherwise every point is l times some point.
-    if count_over(p, digits) % l != 0:
-        return rows
-    image = {multiple_over(p, digits, l, P) for P in points_over(p, digits)}
-    multiples = [multiples_over(p, digits, point_modulo(curve, point, p), l) for point in points]
-    left = []
-    for row in rows:
-        if sum_over(p, digits, multiples, row) in image:
-            left.append(row)
-    return left
+# Points that are shown at all are mostly shown by primes up to this one.
+FIRST_PRIMES = 60
 
 
 def relations(curve, points, l, primes):
@@ -59,14 +24,20 @@ def relations(curve, points, l, primes):
     if power(l, len(points)) > MOST_TUPLES:
         raise TooGreat("tuples")
     rows = all_tuples(len(points), l)
-    for p in primes:
-        rows = kept_at(curve, points, l, p, rows)
+    for p in sorted(set(primes)):
+        if rows != []:
+            rows = kept_rows(rows, logs_over(curve, p, l, points, None), l)
     return tuple(rows)
+
+
+def members_modulo(curve, basis, l):
+    """Those points of a basis of the finite part whose order is a multiple of l."""
+    return tuple([point for point in basis if order_of(curve, point) % l == 0])
 
 
 def basis_modulo(curve, l):
     """A basis of the finite part modulo l times it."""
-    return tuple([point for point in finite_basis(curve) if order_of(curve, point) % l == 0])
+    return members_modulo(curve, finite_basis(curve), l)
 
 
 def are_shown(curve, points, l, primes):
@@ -74,15 +45,20 @@ def are_shown(curve, points, l, primes):
     return relations(curve, (*points, *basis_modulo(curve, l)), l, primes) == ()
 
 
-def needed_primes(curve, points, l):
-    """A tuple of primes up to TRIED_PRIMES at which points have no relation modulo l; None if there is none."""
+def needed_primes(curve, points, l, most, counts):
+    """A tuple of primes up to most at which points have no relation modulo l; None if there is none.
+
+    counts is a dict with the numbers of points over primes; those that are not there yet are put in.
+    """
     rows = all_tuples(len(points), l)
     needed = []
-    for p in range(3, TRIED_PRIMES + 1):
+    for p in range(3, most + 1, 2):
         if rows == []:
             break
         if is_good_prime(curve, p):
-            left = kept_at(curve, points, l, p, rows)
+            if l > 2 and p not in counts:
+                counts[p] = count_over(p, curve_modulo(curve, p))
+            left = kept_rows(rows, logs_over(curve, p, l, points, counts.get(p, 0)), l)
             if len(left) < len(rows):
                 needed.append(p)
             rows = left
@@ -91,10 +67,18 @@ def needed_primes(curve, points, l):
 
 def shown_by(curve, points):
     """A pair (l, primes) for which are_shown is True; None if there is none."""
+    basis = finite_basis(curve)
+    counts = {}
     for l in TRIED:
-        whole = (*points, *basis_modulo(curve, l))
-        if power(l, len(whole)) <= MOST_TUPLES:
-            primes = needed_primes(curve, whole, l)
-            if primes is not None:
-                return (l, primes)
+        whole = (*points, *members_modulo(curve, basis, l))
+        if power(l, len(whole)) > MOST_TUPLES:
+            continue
+        primes = needed_primes(curve, whole, l, FIRST_PRIMES, counts)
+        if primes is None and l == 2 and are_dependent(curve, points, whole[len(points):]):
+            # Dependent points have a relation at all primes.
+            return None
+        if primes is None:
+            primes = needed_primes(curve, whole, l, TRIED_PRIMES, counts)
+        if primes is not None:
+            return (l, primes)
     return None

@@ -12,14 +12,14 @@ LIBRARY = {
 }
 BUILTINS_LET = set(
     "len range enumerate zip min max sum abs sorted reversed int str bool list tuple dict set isinstance ord repr any"
-    " all divmod type iter next map Exception ValueError TypeError KeyError IndexError LookupError"
+    " all divmod type iter next map super Exception ValueError TypeError KeyError IndexError LookupError"
     " ZeroDivisionError".split()
 )
 METHODS_LET = set(
     "append clear copy count endswith extend find get index insert isalnum isalpha isdigit islower isspace isupper"
     " items join keys ljust lower lstrip partition pop remove replace reverse rfind rjust rpartition rsplit rstrip"
     " setdefault split splitlines startswith strip update upper values zfill bit_length add discard sort"
-    " __init__".split()
+    " __init__ partition".split()
 )
 WORDS_BARRED = set(
     "register mro elements open input law version_info with_traceback add_note attrgetter breakpoint builtins"
