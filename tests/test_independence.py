@@ -1,4 +1,5 @@
 import random
+import time
 import unittest
 from itertools import product
 
@@ -223,6 +224,74 @@ class ShownTest(unittest.TestCase):
         self.assertFalse(self.check(RANK_TWO, ((),)))
         self.assertFalse(self.check((0, 0, 1), (((2, 1), (3, 1)),)))
         self.assertFalse(self.check(E, (S, added(E, S, ENDS[2]))))
+
+    def is_told(self, curve, points):
+        """Whether some l and primes up to 500 show the points, by the words: all primes at once show what some show."""
+        primes = tuple(good_primes(curve, 501))
+        for l in (2, 3, 5, 7):
+            if l ** (len(points) + len(basis_modulo(curve, l))) <= 3000 and are_shown(curve, points, l, primes):
+                return True
+        return False
+
+    def test_none_exactly_if_there_is_none(self):
+        rng = random.Random(2)
+        told = set()
+        for at in range(24):
+            curve = rng.choice((RANK_TWO, E, (0, 0, -2), (0, -82, 0), (0, 0, 1), (1, -6, 0), (-15, 32, 256), some_plain(rng, 12)))
+            box, finite = box_of(curve, 60), finite_part(curve)
+            points = [
+                added(curve, multiple(curve, rng.choice((1, 1, 2, 3)), rng.choice(box)), rng.choice(finite))
+                for _ in range(rng.randint(1, 3))
+            ]
+            if at % 3 == 0:
+                points.append(added(curve, multiple(curve, rng.randint(-4, 4), points[0]), rng.choice(finite)))
+            points = tuple(points)
+            self.assertEqual(self.check(curve, points), self.is_told(curve, points), (curve, points))
+            told.add(self.is_told(curve, points))
+        self.assertEqual(told, {True, False})
+
+    def test_points_of_finite_order(self):
+        for curve in ((0, -1, 0), (0, 0, 1), (0, 4, 0), (0, 0, 4), (-15, 32, 256), plain_form((1, 0, 1, -19, 26))[0], E):
+            for point in finite_part(curve):
+                self.assertIsNone(shown_by(curve, (point,)))
+        self.assertIsNone(shown_by((0, -1, 0), (((0, 1), (0, 1)),)))
+        for end in ENDS:
+            self.assertIsNone(shown_by(E, (S, end)))
+            self.assertIsNone(shown_by(E, (end, S)))
+
+    def test_multiples(self):
+        self.assertIsNone(shown_by((0, 0, -2), (((3, 1), (5, 1)), ((129, 100), (-383, 1000)))))
+        for curve, point in (((0, 0, -2), ((3, 1), (5, 1))), (RANK_TWO, P), (E, S), ((0, -16, 16), ((0, 1), (4, 1)))):
+            for n in list(range(-9, 10)) + [12, 16, 25, 30, -31]:
+                self.assertIsNone(shown_by(curve, (point, multiple(curve, n, point))))
+                self.assertIsNone(shown_by(curve, (multiple(curve, n, point), point)))
+        # Neither is a multiple of the other.
+        for n, m in ((2, 3), (6, 10), (15, 14), (-9, 7)):
+            self.assertIsNone(shown_by(E, (multiple(E, n, S), multiple(E, m, S))))
+
+    def test_multiples_and_points_of_finite_order(self):
+        six = (0, 0, 9)
+        for curve, point in ((E, S), ((0, 0, 225), ((4, 1), (17, 1))), (six, ((-2, 1), (1, 1))), ((0, -82, 0), ((-1, 1), (9, 1)))):
+            for end in finite_part(curve):
+                for n in (1, -1, 2, 3, -4, 5, 7, 10):
+                    self.assertIsNone(shown_by(curve, (point, added(curve, multiple(curve, n, point), end))))
+                    self.assertIsNone(shown_by(curve, (added(curve, multiple(curve, n, point), end), added(curve, point, end))))
+
+    def test_three_dependent_points(self):
+        rng = random.Random(3)
+        for _ in range(60):
+            rows = [[rng.randint(-6, 6) for _ in range(2)] for _ in range(3)]
+            points = tuple(added(RANK_TWO, multiple(RANK_TWO, n, P), multiple(RANK_TWO, m, Q)) for n, m in rows)
+            self.assertIsNone(shown_by(RANK_TWO, points), rows)
+
+    def test_dependent_points_take_no_long_time(self):
+        # Each call took a quarter of a second, when all primes were asked.
+        start = time.process_time()
+        for n in range(2, 22):
+            for curve, point in (((0, 0, -2), ((3, 1), (5, 1))), (E, S), (RANK_TWO, P), (RANK_TWO, Q), ((0, -16, 16), ((0, 1), (4, 1)))):
+                self.assertIsNone(shown_by(curve, (point, multiple(curve, n, point))))
+                self.assertIsNone(shown_by((0, -1, 0), (((0, 1), (0, 1)),)))
+        self.assertLess(time.process_time() - start, 12)
 
     def test_too_many_points(self):
         # For 2 ** k above 3,000 none is told.
