@@ -3,7 +3,7 @@
 from pointsum.dependence import are_dependent
 from pointsum.errors import BadNumber, TooGreat
 from pointsum.fields import count_over, curve_modulo
-from pointsum.finite import finite_basis, is_good_prime, order_of
+from pointsum.finite import finite_basis, good_primes, is_good_prime, order_of
 from pointsum.quotients import logs_over
 from pointsum.rows import all_tuples, kept_rows
 from pointsum.whole import is_whole, power
@@ -45,10 +45,15 @@ def are_shown(curve, points, l, primes):
     return relations(curve, (*points, *basis_modulo(curve, l)), l, primes) == ()
 
 
+def counts_over(curve, most):
+    """A dict with the number of points over each odd prime to most of good reduction."""
+    return {p: count_over(p, curve_modulo(curve, p)) for p in good_primes(curve, most)}
+
+
 def needed_primes(curve, points, l, most, counts):
     """A tuple of primes up to most at which points have no relation modulo l; None if there is none.
 
-    counts is a dict with the numbers of points over primes; those that are not there yet are put in.
+    counts has the numbers of points over the primes, if l is not 2.
     """
     rows = all_tuples(len(points), l)
     needed = []
@@ -56,9 +61,7 @@ def needed_primes(curve, points, l, most, counts):
         if rows == []:
             break
         if is_good_prime(curve, p):
-            if l > 2 and p not in counts:
-                counts[p] = count_over(p, curve_modulo(curve, p))
-            left = kept_rows(rows, logs_over(curve, p, l, points, counts.get(p, 0)), l)
+            left = kept_rows(rows, logs_over(curve, p, l, points, counts.get(p, None)), l)
             if len(left) < len(rows):
                 needed.append(p)
             rows = left
@@ -73,6 +76,8 @@ def shown_by(curve, points):
         whole = (*points, *members_modulo(curve, basis, l))
         if power(l, len(whole)) > MOST_TUPLES:
             continue
+        if l > 2 and counts == {}:
+            counts = counts_over(curve, TRIED_PRIMES)
         primes = needed_primes(curve, whole, l, FIRST_PRIMES, counts)
         if primes is None and l == 2 and are_dependent(curve, points, whole[len(points):]):
             # Dependent points have a relation at all primes.

@@ -37,11 +37,11 @@ def parts_in_box(curve, point, l):
     if rows_left(curve, (point,), l, [(1,)], MOST) == []:
         return []
     p = great_prime(curve)
-    over = curve_modulo(curve, p)
+    over_p = curve_modulo(curve, p)
     place = point_modulo(curve, point, p)
     found = []
     for part in box_of(curve, 1 << digits):
-        if multiple_over(p, over, l, point_modulo(curve, part, p)) == place:
+        if multiple_over(p, over_p, l, point_modulo(curve, part, p)) == place:
             found.append(part)
     return [part for part in found if many_times(curve, l, part) == point]
 

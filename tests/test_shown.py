@@ -1,6 +1,7 @@
 import random
 import unittest
 from itertools import product
+from unittest import mock
 
 from pointsum.changes import changes_between, led
 from pointsum.curves import is_plain
@@ -192,6 +193,14 @@ class OpenTest(unittest.TestCase):
         found = [l for l in (11, 13, 17, 31, 37, 41, 43) if is_certified(question, True, (l, tuple(
             p for p in range(3, 1000) if is_prime_slowly(p) and p != 37)))]
         self.assertTrue(any(l > 31 for l in found) and any(l < 31 for l in found))
+
+    def test_endless_without_parts(self):
+        # No point is known whose first 60 multiples are whole; so fewer are asked here.
+        question = ("finite", (0, 0, 17), ((-2, 1), (3, 1)))
+        self.assertEqual(certified(question)[1][0], "parts")
+        with mock.patch("pointsum.shown.MOST_TIMES", 2):
+            self.assertRaises(Open, certified, question)
+            self.assertIs(answer_to(question), False)
 
     def test_rank_of_17(self):
         # The rank is 0, but the lists leave 2.
